@@ -205,13 +205,9 @@ func TestPack(t *testing.T) {
 
 // TestPackOfSets: P6.2, P6.8: of all sets of identifiers of few times and sites, in an order by chance, some of them several times.
 func TestPackOfSets(t *testing.T) {
-	pieces := grid(5, 2)
+	pieces := grid(4, 2)
 	chance := rand.New(rand.NewSource(6))
 	for set := range 1 << len(pieces) {
-		// Two of three sets are left out: these are many.
-		if set%3 != 0 {
-			continue
-		}
 		var ids []api.ID
 		for i, p := range pieces {
 			if set>>i&1 == 1 {
