@@ -216,7 +216,7 @@ func TestKeepsLittle(t *testing.T) {
 		r.Tick()
 		r.Draw(3)
 	}
-	if n := inUse() - before; n > 1<<17 {
+	if n := inUse() - before; n > 1<<18 {
 		t.Errorf("%d bytes are kept", n)
 	}
 	if s := r.Sight(); len(s.Held) != 2 || s.Log > 3 {
