@@ -2,11 +2,13 @@ package whole_test
 
 import (
 	"maps"
+	"math/rand"
 	"slices"
 	"testing"
 
 	"hearsay/api"
 	"hearsay/frame"
+	"hearsay/past"
 	"hearsay/replica"
 	"hearsay/vector"
 )
@@ -177,38 +179,114 @@ func but(t *testing.T, data []byte, credit int, out func() bool) []byte {
 	return told
 }
 
-// TestHold: P0.5: where operations are missing of frames others wait, but never more than Hold; also if the sender does not know how few may.
+// hole is a site that hears all of others by one of them, in frames of which operations were taken out.
+type hole struct {
+	t      *testing.T
+	chance *rand.Rand
+	c      api.Config
+	from   []*replica.Replica // the first one talks with all others
+	to     *replica.Replica
+	issued []api.Op
+}
+
+func newHole(t *testing.T, seed int) *hole {
+	t.Helper()
+	h := &hole{t: t, chance: seeded(seed)}
+	h.c = someConfig(h.chance)
+	h.c.Hold, h.c.Push = pick(h.chance, 0, 1, 1, 2, 5), api.MaxPush
+	founder, err := replica.Found(1, h.c)
+	if err != api.OK {
+		t.Fatalf("Found: error %d", int(err))
+	}
+	h.from, h.issued = []*replica.Replica{founder}, founder.Image().Log
+	for site := 2; site <= 4; site++ {
+		r, _ := replica.Idle(site, h.c)
+		h.issue(founder.Join(site))
+		h.from = append(h.from, r)
+	}
+	h.to, h.from = h.from[3], h.from[:3]
+	for _, r := range h.from[1:] {
+		talk(founder, r)
+	}
+	h.tell(func() bool { return false })
+	return h
+}
+
+func (h *hole) issue(o api.Op, err api.Errno) {
+	h.t.Helper()
+	if err != api.OK {
+		h.t.Fatalf("an edit: error %d", int(err))
+	}
+	h.issued = append(h.issued, o)
+}
+
+// talk lets two sites speak to each other once.
+func talk(a, b *replica.Replica) {
+	said, _ := a.Draw(b.Sight().Site)
+	answers, _ := b.Receive(said[0].Data)
+	for _, x := range answers {
+		a.Receive(x.Data)
+	}
+}
+
+// tell lets the site hear a frame, of which something is taken out; seldom its answer arrives, which does not tell how few may wait.
+func (h *hole) tell(out func() bool) {
+	h.t.Helper()
+	said, err := h.from[0].Draw(4)
+	if err != api.OK {
+		h.t.Fatalf("Draw: error %d", int(err))
+	}
+	answers, err := h.to.Receive(but(h.t, said[0].Data, 0, out))
+	if err != api.OK {
+		h.t.Fatalf("Receive: error %d", int(err))
+	}
+	if len(answers) > 0 && h.chance.Intn(3) == 0 {
+		h.from[0].Receive(but(h.t, answers[0].Data, api.MaxHold, func() bool { return false }))
+	}
+	h.wantClosed()
+}
+
+// wantClosed: what is there is a closed set, whose text is shown, and what waits is beyond it, and not too much.
+func (h *hole) wantClosed() {
+	h.t.Helper()
+	s := h.to.Sight()
+	ops := past.Upto(h.issued, s.Vector)
+	says, err := past.Text(ops)
+	if err != api.OK || says != h.to.Text() {
+		h.t.Fatalf("%+v: it has %v, error %d, and shows %q; want %q", h.c, s.Vector, int(err), h.to.Text(), says)
+	}
+	if len(s.Held) > h.c.Hold || slices.ContainsFunc(s.Held, func(d api.Dot) bool { return vector.Has(s.Vector, d) }) {
+		h.t.Fatalf("%+v: it has %v, and %v wait", h.c, s.Vector, s.Held)
+	}
+}
+
+// TestHold: P0.1 and P0.5: where operations are missing of frames others wait, but never more than Hold, also if the sender does not know how few may; and what is delivered is closed. Once none are missing nothing waits any more.
 func TestHold(t *testing.T) {
 	t.Parallel()
 	saw := map[string]int{}
-	for seed := range rounds(60) {
-		chance := seeded(5500 + seed)
-		c := someConfig(chance)
-		c.Hold, c.Push = pick(chance, 0, 1, 2, 5), api.MaxPush
-		one, _ := replica.Found(1, c)
-		two, _ := replica.Idle(2, c)
-		one.Join(2)
-		said, _ := one.Draw(2)
-		for range 200 {
-			answers, err := two.Receive(but(t, said[0].Data, 0, func() bool { return chance.Intn(3) == 0 }))
-			if err != api.OK {
-				t.Fatalf("Receive: error %d", int(err))
+	for seed := range rounds(80) {
+		h := newHole(t, 5500+seed)
+		for range 60 {
+			r := pick(h.chance, h.from...)
+			h.issue(r.Insert(h.chance.Intn(r.Len()+1), someText(h.chance)))
+			talk(h.from[0], pick(h.chance, h.from[1:]...))
+			h.tell(func() bool { return h.chance.Intn(5) < 2 })
+			if held := len(h.to.Sight().Held); held > 0 {
+				saw["operations that wait"]++
+				if held == h.c.Hold {
+					saw["full holds"]++
+				}
 			}
-			if chance.Intn(3) == 0 {
-				one.Receive(but(t, answers[0].Data, api.MaxHold, func() bool { return false }))
-			}
-			held := two.Sight().Held
-			if len(held) > c.Hold {
-				t.Fatalf("%+v: %v wait", c, held)
-			}
-			if len(held) == c.Hold && c.Hold > 0 {
-				saw["full holds"]++
-			}
-			one.Insert(0, someText(chance))
-			said, _ = one.Draw(2)
+		}
+		for n := 0; n < 400 && !slices.Equal(h.to.Sight().Vector, h.from[0].Sight().Vector); n++ {
+			h.tell(func() bool { return false })
+		}
+		s, all := h.to.Sight(), h.from[0].Sight()
+		if len(s.Held) > 0 || !slices.Equal(s.Vector, all.Vector) || h.to.Text() != h.from[0].Text() {
+			t.Fatalf("%+v: it has %v of %v, and %v wait", h.c, s.Vector, all.Vector, s.Held)
 		}
 	}
-	wantSaw(t, saw, rounds(60), "full holds")
+	wantSaw(t, saw, rounds(60), "full holds", "operations that wait")
 }
 
 // TestNeverBehind: P0.6, at every step of many plays.
@@ -223,6 +301,6 @@ func TestNeverBehind(t *testing.T) {
 		c.Keep = min(c.Keep, 3)
 		newPlay(t, 6000+seed, c, m, saw, watchBehind).run(150 + 12*m.sites)
 	}
-	wantSaw(t, saw, rounds(45), "bases", "bases of those that leave", "operations that others lack", "joiners", "leavers")
-	wantSaw(t, saw, rounds(10), "late images")
+	wantSaw(t, saw, rounds(45), "bases", "bases of those that leave", "operations that others lack", "joiners")
+	wantSaw(t, saw, rounds(20), "leavers", "late images")
 }

@@ -180,7 +180,7 @@ func (p *play) insert([]api.Copy) api.Step {
 
 func (p *play) delete([]api.Copy) api.Step {
 	site := p.editor()
-	return remove(site, p.place(site, 0), 1+p.chance.Intn(3))
+	return remove(site, p.place(site, 0), pick(p.chance, 1, 1, 2, 3, 3, 9))
 }
 
 // join lets the next site in. Where images linger, the sponsor speaks to it at once; and where sponsors stop, it stops then.

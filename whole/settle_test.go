@@ -114,6 +114,45 @@ func roughly(p *play, c *counter, many int) {
 	}
 }
 
+// again: the same, but what each said ahead of the first window arrives once more behind each of them: so each is told of each that it had less.
+func again(p *play, c *counter, many int) {
+	p.t.Helper()
+	old := p.oldest(c.live)
+	for c.count < many {
+		p.round(c)
+		for _, x := range p.under() {
+			if !old[x.Num] {
+				p.quietly(c, drop(x.Num))
+				continue
+			}
+			a := p.quietly(c, double(x.Num))
+			p.quietly(c, deliver(a.Copies[0].Num))
+		}
+		p.loseBut(c, old)
+	}
+}
+
+// oldest is, of each site for each other one, the copy under way that was sent first and is no bad one.
+func (p *play) oldest(live []int) map[int]bool {
+	old, there := map[int]bool{}, map[[2]int]bool{}
+	for _, x := range p.under() {
+		pair := [2]int{x.From, x.To}
+		if !x.Bad && !there[pair] && slices.Contains(live, x.From) && slices.Contains(live, x.To) {
+			old[x.Num], there[pair] = true, true
+		}
+	}
+	return old
+}
+
+// loseBut loses all copies but some.
+func (p *play) loseBut(c *counter, stay map[int]bool) {
+	for _, x := range p.under() {
+		if !stay[x.Num] {
+			p.quietly(c, drop(x.Num))
+		}
+	}
+}
+
 // round is what atOnce says, but that nothing is lost.
 func (p *play) round(c *counter) {
 	p.t.Helper()
@@ -316,9 +355,9 @@ func (p *play) wantForgotten(live []int) {
 // wayOf is a way that so many sites can go in a time.
 func (p *play) wayOf() way {
 	if len(p.is(active)) > 4 || len(p.w.Issued()) > 60 {
-		return pick(p.chance, atOnce, roughly)
+		return pick(p.chance, atOnce, roughly, again)
 	}
-	return pick(p.chance, byChance, oneByOne, atOnce, roughly)
+	return pick(p.chance, byChance, oneByOne, atOnce, roughly, again)
 }
 
 // manySites is 2 to 16, but seldom many.
@@ -343,7 +382,7 @@ func TestSettles(t *testing.T) {
 	}
 	wantSaw(t, saw, rounds(60), "settled", "sites that differ")
 	wantSaw(t, saw, rounds(8), "late images", "sponsors that stop", "leavers")
-	wantSaw(t, saw, rounds(4), "sponsors that leave")
+	wantSaw(t, saw, rounds(2), "sponsors that leave")
 }
 
 // TestSettlesLate: P0.3: where each window brings as little as may be, sites settle, and hardly any sooner than Bound says.
@@ -360,18 +399,21 @@ func TestSettlesLate(t *testing.T) {
 			p.meet(1)
 		}
 		p.meet(4) // each has heard of each, so that there are no images any more
+		p.loseAll(newCounter(p.is(active), 0), 0)
+		for turn := range p.m.sites - 1 {
+			p.do(tick(p.turn(p.is(active), turn)...)) // this may arrive again and again
+		}
 		for range 30 {
 			p.do(insert(1, 0, someText(p.chance)))
 		}
-		p.loseAll(newCounter(p.is(active), 0), 0)
 		bound := fair.Bound(len(p.w.Issued()))
 		w := newCounter(p.is(active), p.w.Steps())
-		needed := 0
+		needed, by := 0, pick(p.chance, atOnce, again)
 		for w.count < bound {
 			if !p.still() {
 				needed = w.count + 1
 			}
-			atOnce(p, w, w.count+1)
+			by(p, w, w.count+1)
 		}
 		p.wantSettled(p.is(active))
 		if needed < bound-9 {
@@ -404,8 +446,8 @@ func TestForgets(t *testing.T) {
 		p.part(2 + p.chance.Intn(2*len(p.is(active))))
 		p.settle(p.wayOf())
 	}
-	wantSaw(t, saw, rounds(50), "forgotten")
-	wantSaw(t, saw, rounds(16), "forgotten but for nothing", "forgotten, as others have left", "late images")
+	wantSaw(t, saw, rounds(35), "forgotten")
+	wantSaw(t, saw, rounds(10), "forgotten but for nothing", "forgotten, as others have left", "late images")
 	wantSaw(t, saw, rounds(8), "sponsors that leave")
 }
 
@@ -479,7 +521,7 @@ func TestStill(t *testing.T) {
 		}
 	}
 	wantSaw(t, saw, rounds(400), "frames that change nothing")
-	wantSaw(t, saw, rounds(40), "stops that change nothing", "times of rest")
+	wantSaw(t, saw, rounds(20), "stops that change nothing", "times of rest")
 }
 
 // rest lets about half of what is said arrive, until all live sites have the same; much of the rest lingers on.
