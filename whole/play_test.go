@@ -144,6 +144,7 @@ func (p *play) do(s api.Step) api.Answer {
 	p.t.Helper()
 	before, step := p.now, p.w.Steps()
 	a := p.w.Do(s)
+	p.wantTaken(s, a)
 	p.note(s, a)
 	if len(p.watchers) > 0 {
 		p.observe()
@@ -153,6 +154,17 @@ func (p *play) do(s api.Step) api.Answer {
 	}
 	p.now.step = step
 	return a
+}
+
+// wantTaken: a copy that arrives at a site is refused, if it was altered or cut off, and only then: sites tell one another what is true.
+func (p *play) wantTaken(s api.Step, a api.Answer) {
+	p.t.Helper()
+	if s.Kind != api.StepDeliver || len(a.Copies) == 0 || p.made[a.Copies[0].To] == stopped {
+		return
+	}
+	if c := a.Copies[0]; c.Bad != (a.Err != api.OK) {
+		p.fail("%s: the copy is bad: %v", words(told(s, a)), c.Bad)
+	}
 }
 
 func (p *play) asked(before moment, s api.Step, a api.Answer) {
